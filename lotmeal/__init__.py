@@ -1,0 +1,1 @@
+"""Lotmeal: things dealt by lot, and fairly."""
