@@ -63,3 +63,12 @@ def common_bottom(some):
     for one in some:
         least = least * one[1] // common_part(least, one[1])
     return least
+
+
+def least_of(some):
+    """The least of a list of fractions, one at least."""
+    least = some[0]
+    for one in some:
+        if under(one, least):
+            least = one
+    return least
