@@ -72,3 +72,13 @@ def least_of(some):
         if under(one, least):
             least = one
     return least
+
+
+def bottom_of_all(rows):
+    """The least common bottom of all fractions in a list of lists."""
+    return common_bottom([(1, common_bottom(row)) for row in rows])
+
+
+def parts_of(one, bottom):
+    """How many parts a fraction comes to, of which so many make 1; its own bottom divides that number."""
+    return one[0] * (bottom // one[1])

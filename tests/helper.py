@@ -146,3 +146,53 @@ def at_least_as_good(table, asker, one, other):
         if sum(value(one[part]) for part in order[:length]) < sum(value(other[part]) for part in order[:length]):
             return False
     return True
+
+
+def whole_table(chance, askers):
+    """A table in which all want all things, of which there are just as many as askers, so that nothing is left."""
+    things = chance.randint(1, 6)
+    counts = [0] * things
+    for asker in range(askers):
+        counts[chance.randrange(things)] += 1
+    orders = [chance.sample(range(things), things) for asker in range(askers)]
+    return (counts, orders)
+
+
+def whole_shares(chance, counts, deals=3, bottom=12):
+    """Shares in which every thing is full: a mix of deals of all there is."""
+    slots = [thing for thing, count in enumerate(counts) for number in range(count)]
+    weights = some_weights(chance, chance.randint(1, deals), bottom)
+    return mixed(counts, [(weight, chance.sample(slots, len(slots))) for weight in weights])
+
+
+def check_judged(test, table, shares, told):
+    """A judgement gone along; its word comes back."""
+    counts, orders = table
+    many = len(counts) + 1
+    wishes = []
+    for asker, line in enumerate(shares):
+        order = full(table, asker)
+        wishes += [(asker, a, b) for place, b in enumerate(order) for a in order[:place] if value(line[b]) > 0]
+    whole = [thing for thing, count in enumerate(counts) if sum(value(line[thing]) for line in shares) == count]
+    left = [wish for wish in wishes if wish[1] not in whole]
+    test.assertIs(type(told), tuple)
+    if left:
+        test.assertEqual(told, ("left",) + min(left))
+    elif told[0] == "ring":
+        test.assertEqual(len(told), 2)
+        ring = told[1]
+        test.assertIs(type(ring), list)
+        test.assertGreaterEqual(len(ring), 2)
+        for place, wish in enumerate(ring):
+            test.assertIs(type(wish), tuple)
+            test.assertIn(wish, wishes)
+            test.assertEqual(wish[2], ring[(place + 1) % len(ring)][1])
+        test.assertEqual(len({wish[1] for wish in ring}), len(ring))
+    else:
+        test.assertEqual(told[0], "good")
+        test.assertEqual(len(told), 2)
+        test.assertIs(type(told[1]), list)
+        test.assertEqual(sorted(told[1]), list(range(many)))
+        for asker, a, b in wishes:
+            test.assertLess(told[1].index(a), told[1].index(b))
+    return told[0]
