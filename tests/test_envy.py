@@ -41,7 +41,8 @@ class EnvyTest(unittest.TestCase):
     def test_all_would(self):
         table = ([1, 1, 1], [[0], [1], [2]])
         # The full orders are 0 3 1 2, then 1 3 0 2, then 2 3 0 1.
-        self.assertEqual(envy(table, rows("0 1 0 0", "0 0 1 0", "1 0 0 0")), [(0, 2, 1), (1, 0, 1), (1, 2, 3), (2, 1, 1)])
+        self.assertEqual(envy(table, rows("0 1 0 0", "0 0 1 0", "1 0 0 0")),
+                         [(0, 2, 1), (1, 0, 1), (1, 2, 3), (2, 1, 1)])
         table = ([3], [[0], [0], [0]])
         self.assertEqual(envy(table, rows("1/3 2/3", "2/3 1/3", "1 0")), [(0, 1, 1), (0, 2, 1), (1, 2, 1)])
 

@@ -143,6 +143,12 @@ class LiesTest(unittest.TestCase):
             lies(([], [[]] * 6), 5, way="turns")
         self.assertEqual(len(lies(([1] * 4, [[0]] * 6), 5)), 65)
 
+    def test_no_asker(self):
+        for asker in (-1, 3, SIXTY, -SIXTY):
+            for way in ("meal", "turns"):
+                with self.assertRaises(NoAsker):
+                    lies(TABLE, asker, way)
+
     def test_lists(self):
         check_own_lists(self, lies, ([1, 1], [[0, 1], [0], [1]]), 0)
         check_own_lists(self, lies, ([1, 1], [[0, 1], [0], [1]]), 2, "turns")
