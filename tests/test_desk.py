@@ -1,6 +1,7 @@
 import unittest
+from unittest import mock
 
-from helper import many_tables, value
+from helper import many_tables, rows, value
 from lotmeal.desk import Desk
 from lotmeal.errors import (Double, LotError, NoAsker, NoName, NoNumber, NoRow, NoTable, NoText, NoTicket, TooGreat,
                             Twice)
@@ -67,6 +68,15 @@ class DeskTest(unittest.TestCase):
         self.assertEqual(desk.say("steps"), "1 a b")
         self.assertEqual(desk.say("ticket 0"), "a b")
         self.assertEqual(desk.say("envy things b"), "no")
+
+    def test_envy_yes(self):
+        # No meal leads to it, so one is put in the place of the meal at which the second asker has all.
+        desk = self.desk_with("table things a 1;ann a;bob a")
+        with mock.patch("lotmeal.desk.meal", lambda table: ([], rows("0 1", "1 0"))):
+            self.assertEqual(desk.say("envy ann bob"), "yes")
+            self.assertEqual(desk.say("envy bob ann"), "no")
+            self.assertEqual(desk.say("envy ann ann"), "no")
+        self.assertEqual(desk.say("envy ann bob"), "no")
 
     def test_turns_that_are_not_good(self):
         # By turns the first two now and then have b and the last two a, and could swap.
